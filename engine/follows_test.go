@@ -149,6 +149,7 @@ func mixed(p *pair, next func(int) int, many int, seen map[[2]int]int) []one {
 			}
 			l = append(l, x)
 			seen[[2]int{x.kind, int(p.do(x.kind, x.args...).errno)}]++
+			p.mustFollow()
 			if n%100 == 0 {
 				p.same()
 			}
@@ -216,6 +217,7 @@ func TestMixedOfAllSizes(t *testing.T) {
 					x.args = []int64{number, day, signed(next)}
 				}
 				seen[p.do(x.kind, x.args...).errno]++
+				p.mustFollow()
 			}
 			p.do(closing, period)
 			p.same()
